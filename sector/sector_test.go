@@ -325,22 +325,97 @@ func TestReadWithoutPower(t *testing.T) {
 	}
 }
 
-// P2.2: the last Fuse counts, also where the power was gone.
+// down wants that neither a Write nor a Flush is done.
+func down(t *testing.T, d *Disk, when string) {
+	t.Helper()
+	before := d.Loose()
+	if e := d.Write(0, []byte("x")); e != api.ErrDown {
+		t.Errorf("%s: Write: error %d", when, e)
+	}
+	if e := d.Flush(); e != api.ErrDown {
+		t.Errorf("%s: Flush: error %d", when, e)
+	}
+	loose(t, d, before)
+}
+
+// P2.2: as long as nothing was refused, the last Fuse counts, whatever was left of the one ahead of it.
 func TestFuseAnew(t *testing.T) {
+	for _, c := range []struct {
+		first, done, second int
+	}{
+		{5, 0, 1}, {5, 2, 1}, {5, 5, 2}, {0, 0, 1}, {0, 0, 3}, {1, 1, 4}, {3, 1, 0}, {3, 3, -1}, {-1, 0, 2},
+	} {
+		d := New(1)
+		d.Fuse(c.first)
+		for range c.done {
+			flush(t, d)
+		}
+		d.Fuse(c.second)
+		for range c.second {
+			put(t, d, 0, "a")
+		}
+		loose(t, d, max(c.second, 0))
+		down(t, d, fmt.Sprint(c))
+	}
+}
+
+// P2.2: behind the first Write or Flush that was refused all are, whatever Fuse comes, till a Crash.
+func TestPowerStaysGone(t *testing.T) {
+	for name, refused := range map[string]func(*Disk) api.Errno{
+		"Write": func(d *Disk) api.Errno { return d.Write(0, []byte("x")) },
+		"Flush": func(d *Disk) api.Errno { return d.Flush() },
+	} {
+		for _, first := range []int{-1, 0, 1, 2} {
+			d := New(1)
+			d.Fuse(first)
+			for range first {
+				put(t, d, 0, "a")
+			}
+			if e := refused(d); e != api.ErrDown {
+				t.Errorf("Fuse(%d): %s: error %d", first, name, e)
+			}
+			for _, n := range []int{1, 5, 0, math.MaxInt, -1, 1} {
+				d.Fuse(n)
+				down(t, d, fmt.Sprintf("Fuse(%d), %s refused, Fuse(%d)", first, name, n))
+			}
+			loose(t, d, max(first, 0))
+			d.Crash(0, -1, 0)
+			see(t, d, 0, "", "")
+			d.Fuse(2)
+			put(t, d, 0, "b")
+			flush(t, d)
+			down(t, d, "a fuse behind the Crash")
+			see(t, d, 0, "b", "b")
+		}
+	}
+}
+
+// P2.2: a Fuse that came while the power was gone is no fuse any more behind the Crash.
+func TestCrashForgetsTheFuse(t *testing.T) {
 	d := New(1)
-	d.Fuse(5)
+	d.Fuse(0)
+	down(t, d, "Fuse(0)")
 	d.Fuse(1)
-	flush(t, d)
-	if e := d.Flush(); e != api.ErrDown {
-		t.Errorf("Fuse(5), Fuse(1): the second Flush: error %d", e)
+	d.Crash(0, -1, 0)
+	for range 5 {
+		put(t, d, 0, "a")
+		flush(t, d)
 	}
-	d.Fuse(2)
+}
+
+// P2.2: a call that answers ErrArg does not take the power, so a newer Fuse counts behind it.
+func TestWrongCallTakesNoPower(t *testing.T) {
+	d := New(1)
+	d.Fuse(0)
+	if a, b := d.Write(1, nil), d.Write(0, make([]byte, 65)); a != api.ErrArg || b != api.ErrArg {
+		t.Errorf("wrong Writes: errors %d, %d", a, b)
+	}
+	d.Read(0)
+	d.Read(1)
+	d.Lasts(0)
+	d.Fuse(1)
 	put(t, d, 0, "a")
-	flush(t, d)
-	if e := d.Flush(); e != api.ErrDown {
-		t.Errorf("Fuse(2): the third call: error %d", e)
-	}
-	see(t, d, 0, "a", "a")
+	down(t, d, "Fuse(1), Write")
 }
 
 // P2.2: behind a crash the power is there, and no fuse.
@@ -547,6 +622,7 @@ type model struct {
 	base  []string
 	loose []write
 	fuse  int // below 0: none
+	gone  bool
 }
 
 func newModel(n int) *model {
@@ -558,7 +634,8 @@ func newModel(n int) *model {
 }
 
 func (m *model) power() api.Errno {
-	if m.fuse == 0 {
+	m.gone = m.gone || m.fuse == 0
+	if m.gone {
 		return api.ErrDown
 	}
 	if m.fuse > 0 {
@@ -609,7 +686,7 @@ func (m *model) crash(keep uint64, torn, at int) {
 			m.base[w.at] = b
 		}
 	}
-	m.loose, m.fuse = nil, -1
+	m.loose, m.fuse, m.gone = nil, -1, false
 }
 
 // P2.1 and P2.2 together: many calls, held against the model behind each.
