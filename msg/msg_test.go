@@ -581,10 +581,11 @@ func TestHeadOfTheMarker(t *testing.T) {
 	mustRefuse(t, "nineteen bytes 0", strings.Repeat("\x00", 19), note(1, 1, ""))
 }
 
-func TestHeadOfEverySizeAndKind(t *testing.T) {
+// Every size of the kinds that there are, and of those beside them; of the others the sizes at the edges.
+func TestHeadOfSizesAndKinds(t *testing.T) {
 	for kind := range 256 {
 		for size := range 65536 {
-			if kind > 6 && kind < 255 && size > 40 && size < 4090 || kind > 6 && size > 4100 && size < 65530 {
+			if kind > 6 && (size > 40 && size < 4090 || size > 4100 && size < 65530) {
 				continue
 			}
 			b := []byte(ff + two(size) + string([]byte{byte(kind)}))
